@@ -1,0 +1,1 @@
+"""Minusless: tables of numbers without negative minors."""

@@ -1,0 +1,172 @@
+"""What holds for all functions: the kinds of their arguments and results."""
+
+import copy
+import inspect
+import unittest
+
+from helpers import Case
+from minusless import (boxcompanies, boxways, chips, chipwebs, clearing, companies, cutting, lots, mainrule, making,
+                       meanings, minors, numbers, onerow, roadminors, roads, stairs, tables, unmaking)
+from minusless.chips import By, Chip, Down, Up
+from minusless.chipwebs import ChipWeb
+from minusless.stairs import Stair
+from minusless.tables import Table
+
+ONE, HALF = (1, 1), (1, 2)
+TABLE = Table.read("1 1/2\n1 1")
+SQUARE = Table.read("1 1 1\n1 2 3\n1 3 6")
+WEB = ChipWeb(2, [Down(0, (2, 1)), Up(0, (3, 1)), By(1, (1, 2))])
+WAY = [[0, 1], [1, 1], [1, 0]]
+PATTERN = [[0, 1, 1], [1, 0, 1], [1, 1, 1]]
+
+# The interface: where each function stands and the names of its arguments.
+FUNCTIONS = {
+    numbers: {"number_of": "top under", "whole": "top", "check_number": "number", "check_row": "row",
+              "plus": "one other", "less": "one other", "times": "one other", "over": "one other", "sign_of": "number",
+              "is_above": "one other", "written": "number", "read_number": "words"},
+    lots: {"check_lot": "lot size", "lots": "size many", "all_lots": "size", "lot_without": "lot thing",
+           "lot_with": "lot thing"},
+    tables: {"beside": "tables"},
+    minors: {"determinant": "table", "plain_determinant": "table", "minor": "table rows columns",
+             "is_bad": "table rows columns", "rank_of": "table"},
+    meanings: {"meaning": "table", "is_good_plainly": "table", "is_all_above_plainly": "table", "least_bad": "table",
+               "nought_minors": "table", "product_minor": "one other rows columns"},
+    chips: {"read_chip": "words"},
+    companies: {"step_lots": "chip lot", "companies_of": "web rows columns", "company_total": "web rows columns",
+                "has_company": "web rows columns", "lots_behind": "web rows place"},
+    cutting: {"cut": "web place", "middle_sum": "web place rows columns", "longest_company": "web"},
+    unmaking: {"next_full": "row column", "unmade_row": "row by", "unmade": "table", "level": "table at",
+               "core_row": "table at", "last_round": "table"},
+    making: {"made_row": "row by", "made": "core", "put_under": "table row"},
+    boxways: {"ways_of": "core row column", "weight_of": "core way", "boxes_of": "core way",
+              "entry_of": "core row column", "turned_way": "way", "touch": "core one other"},
+    clearing: {"cleared": "table", "clear_column": "table column", "clear_part": "table column number"},
+    stairs: {"pattern_of": "table", "read_stair": "words"},
+    mainrule: {"core_fault": "core", "is_good": "table plainly", "stair_of": "table", "table_on": "stair numbers",
+               "numbers_of": "table", "same_cell": "one other"},
+    onerow: {"row_verdict": "table", "clearing_room": "table column"},
+    boxcompanies: {"companies_of_core": "core rows columns", "core_minor": "core rows columns",
+                   "meets_crossing": "core"},
+    roads: {"pattern_rows": "pattern", "road": "pattern row column", "next_box": "pattern row column",
+            "road_lots": "pattern row column", "roads": "pattern", "road_ends": "pattern"},
+    roadminors: {"road_minor": "table pattern row column", "road_minors": "table pattern", "by_roads": "table pattern",
+                 "road_product": "core row column", "cell_faults": "table stair", "in_cell": "table stair"},
+}
+
+METHODS = {
+    Table: {"unit": "size", "nought": "high wide", "read": "words", "words": "", "entry": "row column", "turned": "",
+            "half_turned": "", "part": "rows columns", "corner": "row column", "without_row": "at",
+            "without_column": "at", "with_row": "at row", "with_column": "at column", "copied_row": "at",
+            "joined_rows": "at", "times_row": "at number", "raised": "row column number", "has_nought_row": "at",
+            "__mul__": "other", "__invert__": "", "__eq__": "other", "__len__": "", "__getitem__": "at",
+            "__iter__": ""},
+    Chip: {"span": "", "words": "", "__eq__": "other"},
+    Down: {"moves": "wire", "turned_chip": ""},
+    Up: {"moves": "wire", "turned_chip": ""},
+    By: {"span": "", "moves": "wire", "turned_chip": ""},
+    ChipWeb: {"empty": "wires", "ways_table": "", "chip_table": "place", "turned_web": "", "half_turned_web": "",
+              "with_chip": "place chip", "without_chip": "place", "ways": "start stop", "way_count": "start stop",
+              "__add__": "other", "__mul__": "other", "__eq__": "other", "__len__": "", "__iter__": ""},
+    Stair: {"all_full": "high wide", "all_empty": "high wide", "of_core": "core", "is_stair": "rows",
+            "has": "row column", "full_boxes": "", "empty_boxes": "", "first": "row", "top": "column", "barred": "",
+            "inside": "other", "corner": "row column", "with_box": "row column", "without_box": "row column",
+            "words": "", "__invert__": "", "__eq__": "other", "__len__": "", "__contains__": "box", "__iter__": ""},
+}
+
+
+def calls():
+    """Calls with a list wherever a list or a tuple may be passed, each as (callable, arguments)."""
+    row, by, two = [ONE, HALF], [HALF, ONE], [0, 1]
+    return [
+        (numbers.check_row, row), (lots.check_lot, two, 3), (lots.lot_with, two, 5), (lots.lot_without, two, 1),
+        (Table, [row, by]), (TABLE.part, [0], two), (TABLE.with_row, 1, row), (TABLE.with_column, 1, by),
+        (minors.minor, TABLE, two, [0, 1]), (minors.is_bad, TABLE, two, [0, 1]),
+        (meanings.product_minor, TABLE, TABLE, two, [0, 1]), (ChipWeb, 2, [Down(0, ONE)]),
+        (companies.step_lots, Down(0, ONE), [0]), (companies.companies_of, WEB, [0], [1]),
+        (companies.company_total, WEB, [0], [1]), (companies.has_company, WEB, [0], [1]),
+        (companies.lots_behind, WEB, [0], 2), (cutting.middle_sum, WEB, 1, [0], [1]),
+        (unmaking.next_full, row, 0), (unmaking.unmade_row, row, by), (making.made_row, row, by),
+        (making.put_under, TABLE, row), (boxways.weight_of, TABLE, WAY), (boxways.boxes_of, TABLE, WAY),
+        (boxways.turned_way, WAY), (boxways.touch, TABLE, WAY, [[0, 0]]), (Stair, [[0, 1], [1, 1]]),
+        (Stair.is_stair, [[0, 1], [1, 1]]), (mainrule.table_on, Stair.all_full(1, 2), row),
+        (boxcompanies.companies_of_core, TABLE, two, [0, 1]), (boxcompanies.core_minor, TABLE, two, [0, 1]),
+        (roads.pattern_rows, PATTERN), (roads.road, PATTERN, 0, 0), (roads.next_box, PATTERN, 0, 0),
+        (roads.road_lots, PATTERN, 0, 0), (roads.roads, PATTERN), (roads.road_ends, PATTERN),
+        (roadminors.road_minor, SQUARE, PATTERN, 0, 0), (roadminors.road_minors, SQUARE, PATTERN),
+        (roadminors.by_roads, SQUARE, [[1] * 3] * 3), (roadminors.cell_faults, SQUARE, [[1] * 3] * 3),
+        (roadminors.in_cell, SQUARE, [[1] * 3] * 3),
+    ]
+
+
+def frozen(thing):
+    """The thing with tuples in the place of all lists."""
+    return tuple(frozen(part) for part in thing) if isinstance(thing, list) else thing
+
+
+def results(found):
+    return list(found) if inspect.isgenerator(found) else found
+
+
+def holds_no_list(thing):
+    if isinstance(thing, tuple):
+        return all(holds_no_list(part) for part in thing)
+    return not isinstance(thing, (list, dict, set))
+
+
+class Arguments(Case):
+    def test_nothing_that_is_passed_in_is_changed(self):
+        for call, *arguments in calls():
+            before = copy.deepcopy([part for part in arguments if isinstance(part, list)])
+            results(call(*arguments))
+            self.assertEqual([part for part in arguments if isinstance(part, list)], before, call)
+
+    def test_lists_and_tuples_alike(self):
+        for call, *arguments in calls():
+            found = results(call(*arguments))
+            self.assertEqual(found, results(call(*[frozen(part) for part in arguments])), call)
+            self.assertEqual(found, results(call(*arguments)), call)
+
+    def test_tuples_come_back(self):
+        for call, *arguments in calls():
+            found = results(call(*arguments))
+            for part in found if isinstance(found, list) else [found]:
+                self.assertTrue(holds_no_list(part), call)
+
+    def test_objects_hold_no_lists(self):
+        for found in (Table([[ONE]]).rows, ChipWeb(2, [Down(0, ONE)]).chips, Stair([[1]]).rows,
+                      meanings.meaning(TABLE), meanings.nought_minors(TABLE), WEB.chips, stairs.pattern_of(TABLE),
+                      unmaking.last_round(TABLE), unmaking.core_row(TABLE, 0), mainrule.numbers_of(TABLE),
+                      Stair.all_full(2, 2).full_boxes(), Stair.all_full(2, 2).barred(), TABLE[0], cutting.cut(WEB, 1)):
+            self.assertIs(type(found), tuple)
+            self.assertTrue(holds_no_list(found))
+
+
+class Interface(Case):
+    def test_functions_stand_where_they_are_listed(self):
+        for module, told in FUNCTIONS.items():
+            for name, parameters in told.items():
+                function = getattr(module, name)
+                self.assertEqual(function.__module__, module.__name__)
+                self.assertEqual(list(inspect.signature(function).parameters), parameters.split(), name)
+
+    def test_methods_stand_in_their_class(self):
+        for kind, told in METHODS.items():
+            for name, parameters in told.items():
+                self.assertIn(name, vars(kind))
+                if name.startswith("__"):
+                    continue
+                names = list(inspect.signature(getattr(kind, name)).parameters)
+                self.assertEqual([part for part in names if part != "self"], parameters.split(), name)
+
+    def test_properties(self):
+        for kind, name in ((Table, "square"), (ChipWeb, "length"), (Stair, "many")):
+            self.assertIsInstance(vars(kind)[name], property)
+
+    def test_constructors(self):
+        for kind, parameters in ((Table, "rows"), (Chip, "at amount"), (Down, "at amount"), (Up, "at amount"),
+                                 (By, "at amount"), (ChipWeb, "wires chips"), (Stair, "rows")):
+            self.assertEqual(list(inspect.signature(kind).parameters), parameters.split())
+
+
+if __name__ == "__main__":
+    unittest.main()
