@@ -129,8 +129,6 @@ class ChipWeb:
     def with_chip(self, place, chip):
         """Return the web with one more chip, which gets this place."""
         self.check_place(place, len(self.chips))
-        if not fits(chip, self.wires):
-            raise BadChip(place)
         return ChipWeb(self.wires, self.chips[:place] + (chip,) + self.chips[place:])
 
     def without_chip(self, place):

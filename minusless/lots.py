@@ -75,8 +75,6 @@ def lot_with(lot, thing):
     """Return the lot with the thing in its place."""
     found = check_rising(lot)
     check_thing(thing)
-    if thing in found:
-        return found
     before = [kept for kept in found if kept < thing]
     behind = [kept for kept in found if kept > thing]
     return tuple(before + [thing] + behind)

@@ -125,16 +125,15 @@ def read_number(words):
     """Return the number that the string tells."""
     if not isinstance(words, str):
         raise BadText(-1)
-    parts = words.split("/")
-    minus = parts[0].startswith("-")
-    parts[0] = parts[0].removeprefix("-")
+    minus = words.startswith("-")
+    parts = words.removeprefix("-").split("/")
     if len(parts) > 2 or not all([is_plain_integer(part) for part in parts]):
         raise BadText(-1)
     top = int(parts[0])
+    under = int(parts[1]) if len(parts) == 2 else 1
     if minus and top == 0:
         raise BadText(-1)
     # An integer is written without a lower one, so "3/1" is no string of a number.
-    under = int(parts[1]) if len(parts) == 2 else 1
-    if gcd(top, under) > 1 or under == 0 or (len(parts) == 2 and under == 1):
+    if len(parts) == 2 and (under < 2 or gcd(top, under) > 1):
         raise BadText(-1)
     return (-top, under) if minus else (top, under)

@@ -1,8 +1,7 @@
 """Roads of the boxes of a pattern."""
 
-from minusless.checks import is_from
-from minusless.errors import BadBox
 from minusless.stairs import Stair, check_pattern
+from minusless.tables import check_box_in
 
 
 def pattern_rows(pattern):
@@ -14,8 +13,7 @@ def pattern_rows(pattern):
 
 def check_road_box(rows, row, column):
     """Refuse a box that the rows of a pattern do not have."""
-    if not is_from(row, 0, len(rows) - 1) or not is_from(column, 0, len(rows[0]) - 1):
-        raise BadBox(row, column)
+    check_box_in(len(rows), len(rows[0]), row, column)
 
 
 def joining(boxes, column):

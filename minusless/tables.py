@@ -19,10 +19,15 @@ def check_form(rows):
         raise TooMany(LIMIT)
 
 
-def check_box(grid, row, column):
-    """Refuse a box that the table, or another thing with high and wide, does not have."""
-    if not is_from(row, 0, grid.high - 1) or not is_from(column, 0, grid.wide - 1):
+def check_box_in(high, wide, row, column):
+    """Refuse what is no box of so many rows and columns."""
+    if not is_from(row, 0, high - 1) or not is_from(column, 0, wide - 1):
         raise BadBox(row, column)
+
+
+def check_box(grid, row, column):
+    """Refuse a box that the table or the stair does not have."""
+    check_box_in(grid.high, grid.wide, row, column)
 
 
 def check_row_place(at, high):

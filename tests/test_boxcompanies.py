@@ -88,6 +88,11 @@ class Refused(Case):
                 self.refuses(BadStair(1, 1), action, core, [], [])
         self.assertEqual(core_minor(core=Table.unit(2), rows=[0], columns=[0]), (1, 1))
 
+    def test_the_box_at_fault(self):
+        for call in (lambda core: list(companies_of_core(core, [0], [0])), lambda core: core_minor(core, [0], [0])):
+            self.refuses(BadStair(1, 2), call, Table.read("0 0 1\n1 1 0"))
+            self.refuses(BadStair(2, 1), call, Table.read("0 1\n1 1\n1 0"))
+
     def test_fourteen_and_fifteen(self):
         core = Table([[(1, 1)] * 5] * 3)
         self.refuses(TooMany(14), lambda: list(companies_of_core(core, [0], [0])))
