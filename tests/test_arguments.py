@@ -5,11 +5,17 @@ import inspect
 import unittest
 
 from helpers import Case
-from minusless import (boxcompanies, boxways, chips, chipwebs, clearing, companies, cutting, lots, mainrule, making,
-                       meanings, minors, numbers, onerow, roadminors, roads, stairs, tables, unmaking)
+from minusless import (asking, boxcompanies, boxways, byboxes, chips, chipwebs, choosing, clearing, codes, companies,
+                       coresteps, counting, crossroads, cutting, filling, finding, greedy, judging, ladders, lots,
+                       mainrule, making, meanings, minors, noughts, numbering, numbers, onerow, papers, reading,
+                       roadminors, roads, runs, stairs, steps, tables, takingback, threeparts, unmaking)
+from minusless.asking import Asker
 from minusless.chips import By, Chip, Down, Up
 from minusless.chipwebs import ChipWeb
+from minusless.papers import BadPaper, GoodPaper, Paper
+from minusless.runs import Run
 from minusless.stairs import Stair
+from minusless.steps import ColumnStep, RowStep, Step
 from minusless.tables import Table
 
 ONE, HALF = (1, 1), (1, 2)
@@ -51,6 +57,37 @@ FUNCTIONS = {
             "road_lots": "pattern row column", "roads": "pattern", "road_ends": "pattern"},
     roadminors: {"road_minor": "table pattern row column", "road_minors": "table pattern", "by_roads": "table pattern",
                  "road_product": "core row column", "cell_faults": "table stair", "in_cell": "table stair"},
+    choosing: {"chosen": "pattern numbers", "spoilt": "table pattern row column number",
+               "entry_room": "table pattern row column"},
+    asking: {"asked_through": "table", "tree_signs": "stair", "roads_to": "high wide signs"},
+    crossroads: {"cross_road": "pattern row column", "cross_minors": "table pattern",
+                 "by_cross_roads": "table pattern", "first_unlike": "one other", "telling_minor": "one other"},
+    judging: {"judged": "paper", "judge_all": "papers", "fits": "table paper", "lean": "paper"},
+    finding: {"paper_for": "table", "found_core": "table", "bad_value": "table", "least_paper": "table"},
+    greedy: {"furthest_way": "stair row column sent", "company_in": "stair rows columns"},
+    ladders: {"corner_sizes": "stair", "ladder_size": "stair", "ladder": "stair", "is_ladder": "stair boxes",
+              "hooks": "stair boxes", "ladder_of": "ways"},
+    noughts: {"is_nought": "stair rows columns", "noughts_of": "stair", "nought_entries": "stair",
+              "why_nought": "table row column", "more_noughts": "one other"},
+    reading: {"read_noughts": "table", "same_noughts": "one other", "rank_by_core": "table", "corner_ranks": "table"},
+    counting: {"choose": "size many", "covering": "high wide", "count_stairs": "high wide", "crowded": "high wide"},
+    byboxes: {"covering_by_boxes": "high wide", "stairs_by_boxes": "high wide", "even_odd": "high wide",
+              "turnable": "size", "turnable_by_boxes": "size"},
+    numbering: {"stairs_of": "high wide boxes", "number_of_stair": "stair", "stair_at": "high wide number",
+                "next_stair": "stair", "count_above": "high wide taken"},
+    filling: {"fillable_boxes": "stair", "emptiable_boxes": "stair", "lacking_one": "high wide"},
+    steps: {"step_on": "table kind at amount back"},
+    coresteps: {"core_row_at": "core at", "core_step": "core at amount", "core_column_step": "core at amount",
+                "climb": "core at amount", "left_climb": "core at amount", "climb_boxes": "core at",
+                "adds_box": "stair at", "step_pattern": "stair at"},
+    takingback: {"may_take": "table kind at", "most_back": "table kind at", "take_most": "table kind at",
+                 "takeable": "table"},
+    runs: {"run_of": "steps", "peeled": "table", "boxes_between": "one other"},
+    codes: {"check_code": "code", "row_code": "table", "column_code": "table", "code_length": "code",
+            "order_of": "code", "code_of_order": "order", "turned_order": "code", "reach": "code row column",
+            "stair_of_codes": "rows_code columns_code", "codes_listed": "size", "least_code": "size",
+            "greatest_code": "size"},
+    threeparts: {"three_parts": "table", "is_solid": "table", "joined_parts": "lower middle upper"},
 }
 
 METHODS = {
@@ -71,6 +108,15 @@ METHODS = {
             "has": "row column", "full_boxes": "", "empty_boxes": "", "first": "row", "top": "column", "barred": "",
             "inside": "other", "corner": "row column", "with_box": "row column", "without_box": "row column",
             "words": "", "__invert__": "", "__eq__": "other", "__len__": "", "__contains__": "box", "__iter__": ""},
+    Asker: {"__call__": "number", "question": "", "box": "", "stair": "", "back": "", "__bool__": "", "__len__": ""},
+    Paper: {"holds": "", "about": "", "size": "", "__eq__": "other"},
+    GoodPaper: {"holds": "", "about": "", "size": ""},
+    BadPaper: {"holds": "", "about": "", "size": "", "value": ""},
+    Step: {"kind_word": "", "words": "", "done": "table", "back": "table", "__eq__": "other"},
+    RowStep: {"kind_word": "", "turned_step": "", "half_turned_step": "size"},
+    ColumnStep: {"kind_word": "", "turned_step": "", "half_turned_step": "size"},
+    Run: {"done": "table", "cores": "table", "growth": "table", "turned_run": "", "__add__": "other",
+          "__eq__": "other", "__len__": "", "__iter__": ""},
 }
 
 
@@ -94,8 +140,26 @@ def calls():
         (roads.road_lots, PATTERN, 0, 0), (roads.roads, PATTERN), (roads.road_ends, PATTERN),
         (roadminors.road_minor, SQUARE, PATTERN, 0, 0), (roadminors.road_minors, SQUARE, PATTERN),
         (roadminors.by_roads, SQUARE, [[1] * 3] * 3), (roadminors.cell_faults, SQUARE, [[1] * 3] * 3),
-        (roadminors.in_cell, SQUARE, [[1] * 3] * 3),
+        (roadminors.in_cell, SQUARE, [[1] * 3] * 3), (choosing.chosen, [[0, 1], [1, 1]], [row, by]),
+        (choosing.spoilt, SQUARE, PATTERN, 0, 0, ONE), (choosing.entry_room, SQUARE, PATTERN, 0, 0),
+        (asked, [1, 0, 1]), (crossroads.cross_road, PATTERN, 0, 0), (crossroads.cross_minors, SQUARE, PATTERN),
+        (crossroads.by_cross_roads, SQUARE, [[1] * 3] * 3), (crossroads.first_unlike, PATTERN, [[1] * 3] * 3),
+        (BadPaper, TABLE, two, [0, 1]), (judging.judge_all, [Paper(TABLE)]),
+        (greedy.furthest_way, Stair.all_full(2, 2), 0, 0, [[[1, 1]]]),
+        (greedy.company_in, Stair.all_full(2, 2), two, [0, 1]),
+        (ladders.is_ladder, Stair.all_full(2, 2), [[0, 0], [1, 1]]),
+        (ladders.hooks, Stair.all_full(2, 2), [[0, 0], [1, 1]]), (ladders.ladder_of, [WAY, [[1, 2]]]),
+        (noughts.is_nought, Stair.all_full(2, 2), two, [0, 1]), (numbering.count_above, 2, 3, two),
+        (Run, [RowStep(0, ONE)]), (codes.check_code, [0, 1, 0]), (codes.code_length, [0, 1, 0]),
+        (codes.order_of, [0, 1, 0]), (codes.code_of_order, [1, 2, 0]), (codes.turned_order, [0, 1, 0]),
+        (codes.reach, [0, 1, 0], 2, 0), (codes.stair_of_codes, [0, 1, 0], [0, 0, 2]),
     ]
+
+
+def asked(signs):
+    """The answers and the pattern behind these signs, for an Asker is equal to itself alone."""
+    asker = asking.roads_to(2, 2, signs)
+    return (asker.answers, asker.found)
 
 
 def frozen(thing):
@@ -136,7 +200,20 @@ class Arguments(Case):
         for found in (Table([[ONE]]).rows, ChipWeb(2, [Down(0, ONE)]).chips, Stair([[1]]).rows,
                       meanings.meaning(TABLE), meanings.nought_minors(TABLE), WEB.chips, stairs.pattern_of(TABLE),
                       unmaking.last_round(TABLE), unmaking.core_row(TABLE, 0), mainrule.numbers_of(TABLE),
-                      Stair.all_full(2, 2).full_boxes(), Stair.all_full(2, 2).barred(), TABLE[0], cutting.cut(WEB, 1)):
+                      Stair.all_full(2, 2).full_boxes(), Stair.all_full(2, 2).barred(), TABLE[0], cutting.cut(WEB, 1),
+                      asking.roads_to(2, 2, [1]).answers, asking.roads_to(2, 2, [1]).found,
+                      asking.roads_to(2, 2, [1, -1]).paper_rows, asking.roads_to(2, 2, [1]).question(),
+                      asking.tree_signs(Stair([[1]])), crossroads.telling_minor(Stair([[1]]), Stair([[0]])),
+                      BadPaper(TABLE, [0], [0]).rows, BadPaper(TABLE, [0], [0]).columns, finding.found_core(TABLE),
+                      ladders.corner_sizes(Stair([[1]])), ladders.ladder(Stair([[1]])),
+                      noughts.noughts_of(Stair([[0]])), noughts.nought_entries(Stair([[0]])),
+                      reading.corner_ranks(TABLE), byboxes.stairs_by_boxes(2, 2), byboxes.covering_by_boxes(2, 2),
+                      byboxes.even_odd(2, 2), byboxes.turnable_by_boxes(2), filling.lacking_one(2, 2),
+                      filling.fillable_boxes(Stair([[0]])), filling.emptiable_boxes(Stair([[1]])),
+                      coresteps.core_row_at(TABLE, 0), coresteps.climb_boxes(TABLE, 0), takingback.takeable(TABLE),
+                      Run([RowStep(0, ONE)]).steps, Run([RowStep(0, ONE)]).cores(TABLE), Run().growth(TABLE),
+                      runs.peeled(TABLE)[1], codes.row_code(TABLE), codes.column_code(TABLE), codes.least_code(2),
+                      codes.greatest_code(2), threeparts.three_parts(TABLE)):
             self.assertIs(type(found), tuple)
             self.assertTrue(holds_no_list(found))
 
@@ -164,7 +241,10 @@ class Interface(Case):
 
     def test_constructors(self):
         for kind, parameters in ((Table, "rows"), (Chip, "at amount"), (Down, "at amount"), (Up, "at amount"),
-                                 (By, "at amount"), (ChipWeb, "wires chips"), (Stair, "rows")):
+                                 (By, "at amount"), (ChipWeb, "wires chips"), (Stair, "rows"), (Asker, "high wide"),
+                                 (Paper, "table"), (GoodPaper, "table core"), (BadPaper, "table rows columns"),
+                                 (Step, "at amount"), (RowStep, "at amount up"), (ColumnStep, "at amount left"),
+                                 (Run, "steps")):
             self.assertEqual(list(inspect.signature(kind).parameters), parameters.split())
 
 

@@ -83,26 +83,138 @@ raises BadChip(1)
 >>> from minusless.roadminors import by_roads
 >>> by_roads(Table.read("1 1\n1 0"), [[1, 1], [1, 1]])
 raises NotGood(row=0, column=0)
+
+>>> from minusless.choosing import chosen
+>>> chosen([[0, 1], [1, 1]], [[(0, 1), (2, 1)], [(3, 1), (5, 1)]]).words()
+'6/5 2\n3 5'
+
+>>> from minusless.tables import Table
+>>> from minusless.asking import asked_through
+>>> asker = asked_through(Table.read("1 1 0\n1 1 1\n0 1 1"))
+>>> (asker.end, asker.asked, asker.found)
+('column', 8, ((0, 1, 0), (1, 0, 1), (0, 1, 1)))
+>>> (asker.paper_rows, asker.paper_columns)
+((0, 1, 2), (0, 1, 2))
+
+>>> from minusless.tables import Table
+>>> from minusless.papers import BadPaper
+>>> paper = BadPaper(Table.read("1 2 0\n3 4 0"), [0, 1], [0, 1])
+>>> (paper.KIND, paper.about(), paper.value(), paper.holds())
+('bad', 'about 2 x 3: not good', (-2, 1), True)
+
+>>> from minusless.tables import Table
+>>> from minusless.papers import BadPaper
+>>> from minusless.judging import lean
+>>> paper = lean(BadPaper(Table.read("-1 0\n0 1"), (0, 1), (0, 1)))
+>>> (paper.rows, paper.columns)
+((0,), (0,))
+
+>>> from minusless.tables import Table
+>>> from minusless.finding import paper_for, found_core, bad_value
+>>> paper_for(Table.read("1 1\n1 2")).core.words()
+'1/2 1\n1 2'
+
+>>> from minusless.tables import Table
+>>> from minusless.finding import paper_for, found_core, bad_value
+>>> table = Table.read("7 2\n3 0")
+>>> (found_core(table), bad_value(table))
+(((None, (2, 1)), ((3, 1), (0, 1))), (-6, 1))
+
+>>> from minusless.stairs import read_stair
+>>> from minusless.greedy import company_in, furthest_way
+>>> stair = read_stair('###\n###')
+>>> [furthest_way(stair, 0, 0), company_in(stair, [0, 1], [0, 2])]
+[((0, 2), (1, 2), (1, 0)), (((0, 1), (1, 1), (1, 0)), ((1, 2),))]
+
+>>> from minusless.stairs import read_stair
+>>> from minusless.ladders import corner_sizes, ladder_of
+>>> sizes = corner_sizes(read_stair('.##\n###'))
+>>> [sizes, ladder_of([((0, 1), (1, 1), (1, 0)), ((1, 2),)])]
+[((2, 2, 1), (1, 1, 1)), ((0, 1), (1, 2))]
+
+>>> from minusless.tables import Table
+>>> from minusless.stairs import read_stair
+>>> from minusless.noughts import noughts_of, why_nought
+>>> [noughts_of(read_stair('##\n.#')), why_nought(Table.read('1 0\n0 1'), 0, 1)]
+[(((1,), (0,)),), 'above']
+
+>>> from minusless.tables import Table
+>>> from minusless.reading import rank_by_core, read_noughts
+>>> table = Table.read('1 1\n1 1')
+>>> [read_noughts(table).words(), rank_by_core(table)]
+['.#\n##', 1]
+
+>>> from minusless.counting import count_stairs, covering, crowded
+>>> [count_stairs(3, 3), covering(3, 3), crowded(2, 2)]
+[230, 115, 5]
+
+>>> from minusless.byboxes import even_odd, stairs_by_boxes, turnable_by_boxes
+>>> [stairs_by_boxes(2, 2), even_odd(2, 2), turnable_by_boxes(2)]
+[(1, 4, 5, 3, 1), (7, 7), (1, 2, 1)]
+
+>>> from minusless.stairs import read_stair
+>>> from minusless.numbering import next_stair, number_of_stair, stair_at
+>>> stair = stair_at(2, 2, 5)
+>>> [number_of_stair(read_stair('.#\n##')), stair.words(), next_stair(stair).words()]
+[12, '#.\n#.', '..\n.#']
+
+>>> from minusless.stairs import read_stair
+>>> from minusless.filling import fillable_boxes, lacking_one
+>>> [fillable_boxes(read_stair('..\n#.')), len(lacking_one(2, 3))]
+[((0, 0), (1, 1)), 4]
+
+>>> from minusless.tables import Table
+>>> from minusless.unmaking import unmade
+>>> from minusless.coresteps import core_step
+>>> core_step(unmade(Table.read('1 1\n0 0')), 0, (2, 1)).words()
+'0 1\n2 2'
+
+>>> from minusless.tables import Table
+>>> from minusless.unmaking import unmade
+>>> from minusless.coresteps import climb, climb_boxes
+>>> core = unmade(Table.read('2 1\n2 1\n1 1'))
+>>> [core.words(), climb_boxes(core, 1), climb(core, 1, (1, 1)).words()]
+['0 1\n1 1\n1 1', ((1, 1), (0, 0)), '1/2 1\n1 2\n1 1']
+
+>>> from minusless.tables import Table
+>>> from minusless.takingback import most_back, take_most
+>>> table = Table.read('1 1\n1 2')
+>>> [most_back(table, 'up', 0), take_most(table, 'up', 0).words()]
+[(1, 2), '1/2 0\n1 2']
+
+>>> from minusless.tables import Table
+>>> from minusless.steps import ColumnStep, RowStep
+>>> from minusless.runs import run_of
+>>> run = run_of(RowStep(0, (1, 1)), ColumnStep(0, (2, 1)))
+>>> [run.done(Table.unit(2)).words(), run.growth(Table.unit(2)), run.turned_run().steps[1].words()]
+['1 2\n1 3', (2, 3, 4), 'down 0 2']
+
+>>> from minusless.codes import order_of, reach
+>>> [order_of((0, 1, 0)), reach((0, 1, 0), 2, 0)]
+[(1, 2, 0), 1]
 '''
 
 
 class Examples(Case):
     def test_examples(self):
         examples = EXAMPLES.strip().split("\n\n")
-        self.assertEqual(len(examples), 14)
+        self.assertEqual(len(examples), 33)
         for example in examples:
             with self.subTest(example):
                 self.check(example.split("\n"))
 
     def check(self, lines):
         names = {}
-        for line in lines[:-2]:
-            exec(line.removeprefix(">>> "), names)
-        last, wanted = lines[-2].removeprefix(">>> "), lines[-1]
-        if wanted.startswith("raises "):
-            self.refuses(RAISED[wanted.removeprefix("raises ")], eval, last, names)
-        else:
-            self.assertEqual(repr(eval(last, names)), wanted)
+        for line, wanted in zip(lines, lines[1:] + [">>> "]):
+            if not line.startswith(">>> "):
+                continue
+            asked = line.removeprefix(">>> ")
+            if wanted.startswith(">>> "):
+                exec(asked, names)
+            elif wanted.startswith("raises "):
+                self.refuses(RAISED[wanted.removeprefix("raises ")], eval, asked, names)
+            else:
+                self.assertEqual(repr(eval(asked, names)), wanted)
 
 
 if __name__ == "__main__":

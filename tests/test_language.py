@@ -93,6 +93,14 @@ PROPERTIES = {node.name for kind in CLASSES.values() for node in kind.body if is
               and any(isinstance(part, ast.Name) and part.id == "property" for part in node.decorator_list)}
 
 
+def callable_objects(tree):
+    """The names that are assigned an object of a class with __call__."""
+    kinds = {name for name, kind in CLASSES.items()
+             if any(isinstance(node, ast.FunctionDef) and node.name == "__call__" for node in kind.body)}
+    return {node.targets[0].id for node in ast.walk(tree)
+            if isinstance(node, ast.Assign) and called_name(node.value) in kinds}
+
+
 class Language(unittest.TestCase):
     def each(self):
         for name, tree in TREES.items():
@@ -193,9 +201,11 @@ class Language(unittest.TestCase):
             barred = set(dir(builtins)) | imported_names(tree) | {
                 node.name for node in tree.body if isinstance(node, ast.ClassDef)}
             for function in functions(tree):
+                called = {node.func.id for node in ast.walk(function)
+                          if isinstance(node, ast.Call) and isinstance(node.func, ast.Name)}
                 for name in stored_names(function):
                     self.assertNotIn(name, barred | NAMES_NOT_USED, function.name)
-                    self.assertNotIn(name, GENERATORS, function.name)
+                    self.assertNotIn(name, GENERATORS & called, function.name)
                     self.assertFalse(name.startswith("__"))
                 if not function.name.startswith("__"):
                     self.assertNotIn(function.name, set(dir(builtins)) | NAMES_NOT_USED)
@@ -229,7 +239,7 @@ class Language(unittest.TestCase):
 
     def test_calls(self):
         for _, tree in self.each():
-            known = defined(tree) | imported_names(tree) | CALLED_BUILTINS | {"cls"}
+            known = defined(tree) | imported_names(tree) | CALLED_BUILTINS | callable_objects(tree) | {"cls"}
             for node in ast.walk(tree):
                 if not isinstance(node, ast.Call):
                     continue
