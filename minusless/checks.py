@@ -1,6 +1,6 @@
 """What many modules ask of an argument."""
 
-from minusless.errors import BadWant
+from minusless.errors import BadWant, OtherSize
 
 
 def is_int(value):
@@ -40,3 +40,11 @@ def check_count(value, word):
     if not is_count(value):
         raise BadWant(word)
     return value
+
+
+def check_alike(rows, others):
+    """Refuse the rows of two tables or patterns that have unlike sizes."""
+    if len(rows) != len(others):
+        raise OtherSize(len(rows), len(others))
+    if len(rows[0]) != len(others[0]):
+        raise OtherSize(len(rows[0]), len(others[0]))

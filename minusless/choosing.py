@@ -1,6 +1,7 @@
 """Tables chosen by their road minors."""
 
-from minusless.errors import BadBox, OtherSize
+from minusless.checks import check_alike
+from minusless.errors import BadBox
 from minusless.minors import determinant_of
 from minusless.numbers import NOUGHT, check_number, less, over
 from minusless.roadminors import minor_rows, sized_rows
@@ -15,10 +16,7 @@ def table_given(numbers):
 
 def check_numbers_fit(rows, numbers):
     """Refuse numbers of another size than the rows of the pattern, and 0 at a full box."""
-    if len(rows) != numbers.high:
-        raise OtherSize(len(rows), numbers.high)
-    if len(rows[0]) != numbers.wide:
-        raise OtherSize(len(rows[0]), numbers.wide)
+    check_alike(rows, numbers.rows)
     for row, column in tree_boxes(rows):
         if rows[row][column] == 1 and numbers.rows[row][column] == NOUGHT:
             raise BadBox(row, column)

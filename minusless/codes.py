@@ -69,14 +69,18 @@ def order_of(code):
     return order
 
 
+def count_less(order, place):
+    """Return how many numbers ahead of the place are less than the one there."""
+    return len([other for other in order[:place] if other < order[place]])
+
+
 def code_of_order(order):
     """Return the code of the order."""
     check_code_form(order)
     for place, number in enumerate(order):
         if not is_from(number, 0, len(order) - 1) or number in order[:place]:
             raise BadCode(place)
-    counts = [len([other for other in order[:place] if other < number]) for place, number in enumerate(order)]
-    return tuple(counts)
+    return tuple([count_less(order, place) for place in range(len(order))])
 
 
 def turned_order(code):

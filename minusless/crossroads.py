@@ -1,6 +1,7 @@
 """Cross roads: the roads of the turned pattern; and stairs told apart."""
 
-from minusless.errors import BadWant, NotGood, OtherSize
+from minusless.checks import check_alike
+from minusless.errors import BadWant, NotGood
 from minusless.numbers import NOUGHT, over
 from minusless.roadminors import minor_rows, next_minor, sized_rows
 from minusless.roads import check_road_box, pattern_rows, road_lots, road_on, tree_boxes
@@ -38,10 +39,7 @@ def first_unlike(one, other):
     """Return the first box in the tree's order in which two patterns differ, None if they are equal."""
     rows = pattern_rows(one)
     others = pattern_rows(other)
-    if len(rows) != len(others):
-        raise OtherSize(len(rows), len(others))
-    if len(rows[0]) != len(others[0]):
-        raise OtherSize(len(rows[0]), len(others[0]))
+    check_alike(rows, others)
     for row, column in tree_boxes(rows):
         if rows[row][column] != others[row][column]:
             return (row, column)

@@ -1,6 +1,5 @@
 """Boxes of a stair that may be filled or emptied."""
 
-from minusless.numbering import check_stair_size
 from minusless.stairs import Stair
 
 
@@ -23,6 +22,5 @@ def emptiable_boxes(stair):
 
 def lacking_one(high, wide):
     """Return the Stairs with only one empty box, in the reading order of that box."""
-    check_stair_size(high, wide)
     full = Stair.all_full(high, wide)
     return tuple([full.without_box(row, column) for row, column in emptiable_boxes(full)])

@@ -1,6 +1,7 @@
 """The noughts of a cell: the minors that are nought in all its tables."""
 
-from minusless.errors import OtherSize, TooMany
+from minusless.checks import check_alike
+from minusless.errors import TooMany
 from minusless.greedy import company_in
 from minusless.meanings import lot_pairs
 from minusless.numbers import NOUGHT
@@ -56,8 +57,5 @@ def why_nought(table, row, column):
 
 def more_noughts(one, other):
     """Tell whether every nought of the cell of other is a nought of the cell of one."""
-    if one.high != other.high:
-        raise OtherSize(one.high, other.high)
-    if one.wide != other.wide:
-        raise OtherSize(one.wide, other.wide)
+    check_alike(one.rows, other.rows)
     return all([is_nought(one, rows, columns) for rows, columns in noughts_of(other)])

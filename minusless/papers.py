@@ -1,7 +1,8 @@
 """Papers: short certificates that a table is good, or that it is not."""
 
 from minusless.boxways import count_full
-from minusless.errors import BadLot, OtherSize
+from minusless.checks import check_alike
+from minusless.errors import BadLot
 from minusless.mainrule import core_fault
 from minusless.making import made
 from minusless.minors import check_lots, is_bad, minor
@@ -43,10 +44,7 @@ class GoodPaper(Paper):
 
     def __init__(self, table, core):
         Paper.__init__(self, table)
-        if table.high != core.high:
-            raise OtherSize(table.high, core.high)
-        if table.wide != core.wide:
-            raise OtherSize(table.wide, core.wide)
+        check_alike(table.rows, core.rows)
         self.core = core
 
     def holds(self):

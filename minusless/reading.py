@@ -1,6 +1,6 @@
 """What the nought minors of a table tell: its cell, and the ranks of its corners."""
 
-from minusless.errors import OtherSize
+from minusless.checks import check_alike
 from minusless.ladders import ladder_size
 from minusless.mainrule import stair_of
 from minusless.meanings import nought_minors
@@ -22,10 +22,7 @@ def read_noughts(table):
 
 def same_noughts(one, other):
     """Tell whether two tables have the same nought minors."""
-    if one.high != other.high:
-        raise OtherSize(one.high, other.high)
-    if one.wide != other.wide:
-        raise OtherSize(one.wide, other.wide)
+    check_alike(one.rows, other.rows)
     return nought_minors(one) == nought_minors(other)
 
 

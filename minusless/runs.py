@@ -1,8 +1,8 @@
 """Runs: steps done one behind the other; and good tables peeled until a diagonal is left."""
 
 from minusless.boxways import count_full
-from minusless.checks import is_series
-from minusless.errors import BadStep, OtherSize
+from minusless.checks import check_alike, is_series
+from minusless.errors import BadStep
 from minusless.mainrule import good_core
 from minusless.steps import ColumnStep, RowStep
 from minusless.takingback import goes_back, take_most
@@ -120,9 +120,6 @@ def peeled(table):
 
 def boxes_between(one, other):
     """Return how many full boxes the core of other has more than that of one."""
-    if one.high != other.high:
-        raise OtherSize(one.high, other.high)
-    if one.wide != other.wide:
-        raise OtherSize(one.wide, other.wide)
+    check_alike(one.rows, other.rows)
     before = count_full(good_core(one))
     return count_full(good_core(other)) - before

@@ -10,7 +10,7 @@ KINDS = ("down", "up", "right", "left")
 
 def check_kind(kind):
     """Refuse what is none of the four words."""
-    if not isinstance(kind, str) or kind not in KINDS:
+    if kind not in KINDS:
         raise BadWant("kind")
 
 

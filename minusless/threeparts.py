@@ -24,9 +24,10 @@ def three_parts(table):
             raise NoTurning()
         middle[at][at] = lead
         for place in range(at + 1, size):
-            lower[place][at] = over(rows[place][at], lead)
+            share = over(rows[place][at], lead)
+            lower[place][at] = share
             upper[at][place] = over(rows[at][place], lead)
-        rows = [less_multiple(row, lower[place][at], rows[at]) if place > at else row for place, row in enumerate(rows)]
+            rows[place] = less_multiple(rows[place], share, rows[at])
     return (Table(lower), Table(middle), Table(upper))
 
 

@@ -88,6 +88,7 @@ class Chosen(Case):
         self.refuses(OtherSize(1, 2), chosen, [[1, 1, 1]], numbers)
         self.refuses(OtherSize(1, 2), chosen, Stair.all_full(2, 1), Table(numbers))
         self.refuses(OtherSize(3, 2), chosen, [[1, 1, 1], [1, 1, 1]], [[NOUGHT] * 2] * 2)
+        self.refuses(OtherSize(2, 1), chosen, [[1, 1]], [[NOUGHT]])
 
 
 class Spoilt(Case):

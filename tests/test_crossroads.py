@@ -145,14 +145,15 @@ class ToldApart(Case):
                     lots = telling_minor(one=one, other=other)
                     self.assertEqual(lots, (tuple(row for row, _ in boxes), tuple(column for _, column in boxes)))
                     self.assertEqual(telling_minor(other, one), lots)
+                    self.assertEqual(telling_minor([list(row) for row in one.rows], other.rows), lots)
                     for stair in (one, other):
                         top = minor(good_on(rng, stair), *lots)[0]
                         self.assertTrue(top > 0 if stair.has(*box) else top == 0)
 
     def test_errors_in_order(self):
         for call in (first_unlike, telling_minor):
-            self.refuses(OtherSize(2, 3), call, Stair.all_full(2, 2), Stair.all_full(3, 3))
-            self.refuses(OtherSize(2, 3), call, Stair.all_full(2, 2), Stair.all_full(2, 3))
+            self.refuses(OtherSize(2, 3), call, Stair.all_full(2, 4), Stair.all_full(3, 5))
+            self.refuses(OtherSize(4, 5), call, Stair.all_full(1, 4), Stair.all_full(1, 5))
         self.refuses(BadTable(-1), first_unlike, None, [[2]])
         self.refuses(BadTable(0), first_unlike, [[1]], [[2]])
         self.refuses(BadTable(1), first_unlike, [[1, 1], [1]], None)

@@ -1,10 +1,11 @@
 import random
 import unittest
 
-from helpers import Case, frac, num, plain_good, plain_minor
+from helpers import Case, frac, num, plain_good, plain_minor, random_table
 from minusless.errors import BadWant, TooMany
 from minusless.finding import bad_value, found_core, least_paper, paper_for
 from minusless.mainrule import is_good
+from minusless.making import made
 from minusless.meanings import least_bad
 from minusless.papers import BadPaper, GoodPaper
 from minusless.tables import Table
@@ -75,6 +76,19 @@ class Finding(Case):
                 ends[tree.end] += 1
         self.assertGreater(min(ends.values()), 30)
         self.assertEqual(bad_value(table=Table.read("-3")), (-3, 1))
+
+    def test_bad_value_of_long_roads(self):
+        rng = random.Random(2)
+        long = 0
+        for _ in range(300):
+            # No number is below 0 here, so the tree ends at a column or good.
+            core = random_table(rng, 4, 4, low=1, noughts=0.25)
+            table = made(core)
+            tree = plain_tree(table)
+            if tree.end == "column":
+                self.assertEqual(bad_value(table), plain_minor(table, *tree.paper))
+                long += len(tree.paper[0]) > 3
+        self.assertGreater(long, 5)
 
     def test_least_paper(self):
         for table in TABLES:

@@ -34,6 +34,7 @@ class Judging(Case):
         self.assertEqual(judge_all([]), "nothing")
         self.assertEqual(judge_all(()), "nothing")
         self.assertEqual(judge_all(papers=[FAILS_GOOD, Paper(GOOD)]), "nothing")
+        self.assertEqual((judge_all([HOLDS_BAD]), judge_all([FAILS_BAD])), ("bad", "nothing"))
         self.assertEqual(judge_all((FAILS_GOOD, HOLDS_GOOD, OtherPaper(GOOD))), "good")
         self.assertEqual(judge_all([FAILS_GOOD, OtherPaper(GOOD), HOLDS_GOOD]), "bad")
         self.assertEqual(judge_all([FAILS_BAD, HOLDS_BAD]), "bad")

@@ -38,6 +38,14 @@ class Papers(Case):
                 self.assertFalse(one == value)
                 self.assertTrue(one != value)
 
+    def test_papers_of_a_class_below(self):
+        class Other(Paper):
+            KIND = "other"
+
+        self.assertFalse(Paper(GOOD) == Other(GOOD))
+        self.assertFalse(Other(GOOD) == Paper(GOOD))
+        self.assertTrue(Other(GOOD) == Other(GOOD))
+
     def test_each_class_has_the_methods(self):
         for kind in (GoodPaper, BadPaper):
             self.assertTrue(issubclass(kind, Paper))
@@ -90,7 +98,7 @@ class GoodPapers(Case):
         self.assertTrue(paper != GoodPaper(core, core))
 
     def test_errors_in_order(self):
-        self.refuses(OtherSize(2, 3), GoodPaper, GOOD, Table.nought(3, 3))
+        self.refuses(OtherSize(2, 1), GoodPaper, GOOD, Table.nought(1, 3))
         self.refuses(OtherSize(3, 2), GoodPaper, BAD, GOOD)
 
 

@@ -222,7 +222,7 @@ class Between(Case):
 
     def test_errors_in_order(self):
         bad, worse = Table.read("0 1\n1 0"), Table.read("-1 0\n0 0")
-        self.refuses(OtherSize(2, 3), boxes_between, bad, Table.nought(3, 3))
+        self.refuses(OtherSize(2, 4), boxes_between, bad, Table.nought(4, 3))
         self.refuses(OtherSize(2, 3), boxes_between, bad, Table.nought(2, 3))
         self.refuses(OtherSize(3, 2), boxes_between, Table.nought(2, 3), bad)
         self.refuses(NotGood(1, 1), boxes_between, bad, worse)
