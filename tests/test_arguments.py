@@ -5,15 +5,18 @@ import inspect
 import unittest
 
 from helpers import Case
-from minusless import (asking, boxcompanies, boxways, byboxes, chips, chipwebs, choosing, clearing, codes, companies,
-                       coresteps, counting, crossroads, cutting, filling, finding, greedy, judging, ladders, lots,
-                       mainrule, making, meanings, minors, noughts, numbering, numbers, onerow, papers, reading,
-                       roadminors, roads, runs, stairs, steps, tables, takingback, threeparts, unmaking)
+from minusless import (asking, borders, boxcompanies, boxways, breaking, byboxes, chips, chipwebs, choosing, clearing,
+                       codes, companies, coresteps, counting, crossroads, cutting, exchanges, filling, finding, greedy,
+                       judging, ladders, lots, mainrule, making, meanings, minors, noughts, numbering, numbers, onerow,
+                       papers, passages, powers, raising, reading, results, roadminors, roads, runs, signs, stairs,
+                       steps, tables, takingback, threeparts, tops, unmaking, words)
 from minusless.asking import Asker
+from minusless.breaking import SignPaper
 from minusless.chips import By, Chip, Down, Up
 from minusless.chipwebs import ChipWeb
 from minusless.papers import BadPaper, GoodPaper, Paper
 from minusless.runs import Run
+from minusless.signs import SignRule
 from minusless.stairs import Stair
 from minusless.steps import ColumnStep, RowStep, Step
 from minusless.tables import Table
@@ -88,7 +91,32 @@ FUNCTIONS = {
             "stair_of_codes": "rows_code columns_code", "codes_listed": "size", "least_code": "size",
             "greatest_code": "size"},
     threeparts: {"three_parts": "table", "is_solid": "table", "joined_parts": "lower middle upper"},
+    words: {"check_word": "word size", "after_letter": "code letter", "is_idle": "code letter",
+            "code_of_word": "word size", "idle_places": "word size", "is_shortest": "word size",
+            "shortest_word": "code", "word_table": "word amounts size", "amounts_of": "table word",
+            "least_steps": "table", "least_run": "table"},
+    exchanges: {"may_exchange": "word place", "exchanged": "word amounts place", "shortened": "word amounts size",
+                "shortest_words": "code", "exchange_chain": "one other size"},
+    borders: {"is_below": "lesser greater", "below_by_words": "lesser greater", "codes_below": "code",
+              "nearing": "word amounts kept number size", "border_table": "word amounts kept size",
+              "telling_corner": "lesser greater", "telling_noughts": "lesser greater", "star": "one other"},
+    passages: {"passage": "core", "row_passage": "row", "up": "table row", "down_from": "table row"},
+    tops: {"may_top": "table row", "may_bottom": "table row", "may_left": "table column", "may_right": "table column",
+           "top_edges": "table", "top_numbers": "table row", "bottom_edges": "table"},
+    raising: {"entry_stretch": "table row column", "top_stretch": "table column", "corner_low": "table",
+              "ending_minor": "table row column lowest", "first_emptied": "table column",
+              "endless": "table row column"},
+    results: {"product_noughts": "one other", "result_stair": "stair deed at", "power_stair": "stair times",
+              "product_of": "tables"},
+    powers: {"all_power": "table", "power": "table times", "back_with_signs": "table", "neighbours_full": "table"},
+    signs: {"changes": "row", "most_changes": "row", "begins": "row", "ends": "row", "filled_signs": "row begin",
+            "taken": "table row", "taken_left": "table row"},
+    breaking: {"solved": "table row", "breaks": "table row", "breaking_row": "table", "reaching_row": "table"},
 }
+
+# These are passed by name only.
+NAMED_ONLY = {(raising, "ending_minor"): ["lowest"], (mainrule, "is_good"): ["plainly"],
+              (numbering, "stairs_of"): ["boxes"], (steps, "step_on"): ["back"]}
 
 METHODS = {
     Table: {"unit": "size", "nought": "high wide", "read": "words", "words": "", "entry": "row column", "turned": "",
@@ -117,6 +145,8 @@ METHODS = {
     ColumnStep: {"kind_word": "", "turned_step": "", "half_turned_step": "size"},
     Run: {"done": "table", "cores": "table", "growth": "table", "turned_run": "", "__add__": "other",
           "__eq__": "other", "__len__": "", "__iter__": ""},
+    SignRule: {"__call__": "row", "strict": "row", "verdicts": "rows", "turned_rule": ""},
+    SignPaper: {"holds": "", "about": "", "size": ""},
 }
 
 
@@ -153,6 +183,22 @@ def calls():
         (Run, [RowStep(0, ONE)]), (codes.check_code, [0, 1, 0]), (codes.code_length, [0, 1, 0]),
         (codes.order_of, [0, 1, 0]), (codes.code_of_order, [1, 2, 0]), (codes.turned_order, [0, 1, 0]),
         (codes.reach, [0, 1, 0], 2, 0), (codes.stair_of_codes, [0, 1, 0], [0, 0, 2]),
+        (words.check_word, two, 3), (words.after_letter, [0, 1, 2], 0), (words.is_idle, [0, 1, 2], 0),
+        (words.code_of_word, two, 3), (words.idle_places, [0, 0], 3), (words.is_shortest, two, 3),
+        (words.shortest_word, [0, 0, 0]), (words.word_table, two, [ONE, HALF], 3), (words.amounts_of, SQUARE, [0, 1, 0]),
+        (exchanges.may_exchange, [0, 1, 0], 0), (exchanges.exchanged, [0, 1, 0], [ONE, HALF, ONE], 0),
+        (exchanges.shortened, [0, 0], row, 2), (exchanges.shortest_words, [0, 0, 0]),
+        (exchanges.exchange_chain, [0, 1, 0], [1, 0, 1], 3), (borders.is_below, [0, 1, 0], [0, 0, 0]),
+        (borders.below_by_words, [0, 1, 0], [0, 0, 0]), (borders.codes_below, [0, 1, 0]),
+        (borders.nearing, two, row, [0], ONE, 3), (borders.border_table, two, row, [0], 3),
+        (borders.telling_corner, [0, 1, 0], [0, 0, 2]), (borders.telling_noughts, [0, 1, 0], [0, 0, 2]),
+        (borders.star, [0, 1, 0], [0, 0, 2]), (passages.row_passage, row), (passages.up, TABLE, row),
+        (passages.down_from, TABLE, row), (tops.may_top, TABLE, row), (tops.may_bottom, TABLE, row),
+        (tops.may_left, TABLE, row), (tops.may_right, TABLE, row), (tops.top_numbers, TABLE, row),
+        (results.product_of, [TABLE, TABLE]), (signs.changes, row), (signs.most_changes, row), (signs.begins, row),
+        (signs.ends, row), (signs.filled_signs, row, 1), (signs.taken, TABLE, row), (signs.taken_left, TABLE, row),
+        (SignRule(TABLE), row), (SignRule(TABLE).strict, row), (SignRule(TABLE).verdicts, [row, by]),
+        (breaking.solved, TABLE, row), (breaking.breaks, TABLE, row), (SignPaper, TABLE, row),
     ]
 
 
@@ -167,7 +213,7 @@ def frozen(thing):
     return tuple(frozen(part) for part in thing) if isinstance(thing, list) else thing
 
 
-def results(found):
+def listed(found):
     return list(found) if inspect.isgenerator(found) else found
 
 
@@ -181,18 +227,18 @@ class Arguments(Case):
     def test_nothing_that_is_passed_in_is_changed(self):
         for call, *arguments in calls():
             before = copy.deepcopy([part for part in arguments if isinstance(part, list)])
-            results(call(*arguments))
+            listed(call(*arguments))
             self.assertEqual([part for part in arguments if isinstance(part, list)], before, call)
 
     def test_lists_and_tuples_alike(self):
         for call, *arguments in calls():
-            found = results(call(*arguments))
-            self.assertEqual(found, results(call(*[frozen(part) for part in arguments])), call)
-            self.assertEqual(found, results(call(*arguments)), call)
+            found = listed(call(*arguments))
+            self.assertEqual(found, listed(call(*[frozen(part) for part in arguments])), call)
+            self.assertEqual(found, listed(call(*arguments)), call)
 
     def test_tuples_come_back(self):
         for call, *arguments in calls():
-            found = results(call(*arguments))
+            found = listed(call(*arguments))
             for part in found if isinstance(found, list) else [found]:
                 self.assertTrue(holds_no_list(part), call)
 
@@ -213,7 +259,11 @@ class Arguments(Case):
                       coresteps.core_row_at(TABLE, 0), coresteps.climb_boxes(TABLE, 0), takingback.takeable(TABLE),
                       Run([RowStep(0, ONE)]).steps, Run([RowStep(0, ONE)]).cores(TABLE), Run().growth(TABLE),
                       runs.peeled(TABLE)[1], codes.row_code(TABLE), codes.column_code(TABLE), codes.least_code(2),
-                      codes.greatest_code(2), threeparts.three_parts(TABLE)):
+                      codes.greatest_code(2), threeparts.three_parts(TABLE), words.shortest_word((0, 0, 0)),
+                      words.least_run(SQUARE), words.amounts_of(SQUARE, (0, 1, 0)), tops.top_edges(TABLE),
+                      tops.bottom_edges(TABLE), raising.entry_stretch(TABLE, 0, 1), raising.ending_minor(TABLE, 0, 1),
+                      raising.top_stretch(TABLE, 1), breaking.reaching_row(TABLE), SignPaper(TABLE, [ONE, ONE]).row_told,
+                      breaking.breaking_row(Table.read("1 2\n2 1")), borders.codes_below((0, 0, 0))):
             self.assertIs(type(found), tuple)
             self.assertTrue(holds_no_list(found))
 
@@ -225,6 +275,13 @@ class Interface(Case):
                 function = getattr(module, name)
                 self.assertEqual(function.__module__, module.__name__)
                 self.assertEqual(list(inspect.signature(function).parameters), parameters.split(), name)
+
+    def test_passed_by_name_only(self):
+        for module, told in FUNCTIONS.items():
+            for name in told:
+                held = inspect.signature(getattr(module, name)).parameters.values()
+                named = [part.name for part in held if part.kind is part.KEYWORD_ONLY]
+                self.assertEqual(named, NAMED_ONLY.get((module, name), []), name)
 
     def test_methods_stand_in_their_class(self):
         for kind, told in METHODS.items():
@@ -244,7 +301,7 @@ class Interface(Case):
                                  (By, "at amount"), (ChipWeb, "wires chips"), (Stair, "rows"), (Asker, "high wide"),
                                  (Paper, "table"), (GoodPaper, "table core"), (BadPaper, "table rows columns"),
                                  (Step, "at amount"), (RowStep, "at amount up"), (ColumnStep, "at amount left"),
-                                 (Run, "steps")):
+                                 (Run, "steps"), (SignRule, "table"), (SignPaper, "table row")):
             self.assertEqual(list(inspect.signature(kind).parameters), parameters.split())
 
 

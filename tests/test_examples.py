@@ -189,16 +189,62 @@ raises NotGood(row=0, column=0)
 >>> [run.done(Table.unit(2)).words(), run.growth(Table.unit(2)), run.turned_run().steps[1].words()]
 ['1 2\n1 3', (2, 3, 4), 'down 0 2']
 
+>>> from minusless.words import code_of_word
 >>> from minusless.codes import order_of, reach
->>> [order_of((0, 1, 0)), reach((0, 1, 0), 2, 0)]
-[(1, 2, 0), 1]
+>>> [code_of_word([0, 1], 3), order_of((0, 1, 0)), reach((0, 1, 0), 2, 0)]
+[(0, 1, 0), (1, 2, 0), 1]
+
+>>> from minusless.words import amounts_of, word_table
+>>> table = word_table((0, 1), [(2, 1), (3, 1)], 3)
+>>> [table.words(), amounts_of(table, (0, 1))]
+['1 0 0\n2 1 0\n6 3 1', ((2, 1), (3, 1))]
+
+>>> from minusless.exchanges import exchanged
+>>> exchanged((0, 1, 0), [(1, 1), (2, 1), (3, 1)], 0)
+((1, 0, 1), ((3, 2), (4, 1), (1, 2)))
+
+>>> from minusless.borders import codes_below, telling_noughts
+>>> [codes_below((0, 1, 0)), telling_noughts((0, 1, 0), (0, 0, 2))]
+[((0, 0, 2), (0, 1, 0), (0, 1, 1), (0, 1, 2)), ((2,), (0,))]
+
+>>> from minusless.tables import Table
+>>> from minusless.passages import up
+>>> from minusless.tops import top_edges
+>>> table = Table.read('1 1\n1 2')
+>>> [up(table, [(3, 1), (1, 1)]), top_edges(table)]
+[((2, 1), (1, 1)), ((0, ((1, 1), (0, 1))), (1, ((1, 1), (1, 1))))]
+
+>>> from minusless.tables import Table
+>>> from minusless.raising import entry_stretch, top_stretch, first_emptied
+>>> table = Table.read('1 1 1\n1 1 1\n0 1 1')
+>>> [entry_stretch(Table.read('1 1\n1 2'), 1, 0), top_stretch(table, 2), first_emptied(table, 2)]
+[((-1, 1), (1, 1)), ((0, 1), (0, 1)), 0]
+
+>>> from minusless.tables import Table
+>>> from minusless.powers import all_power, back_with_signs
+>>> [all_power(Table.read('1 1 0\n1 2 1\n0 1 2')), back_with_signs(Table.read('1 2\n2 5')).words()]
+[2, '5 2\n2 1']
+
+>>> from minusless.signs import changes, most_changes, filled_signs
+>>> row = [(1, 1), (0, 1), (2, 1), (-1, 2)]
+>>> [changes(row), most_changes(row), filled_signs(row, 1), filled_signs(row, -1)]
+[1, 3, (1, -1, 1, -1), None]
+
+>>> from minusless.tables import Table
+>>> from minusless.signs import taken
+>>> from minusless.breaking import breaking_row, SignPaper
+>>> table = Table.read('1 2\n2 1')
+>>> row = breaking_row(table)
+>>> paper = SignPaper(table, row)
+>>> [row, taken(table, row), paper.about(), paper.holds()]
+[((-1, 1), (1, 1)), ((1, 1), (-1, 1)), 'about 2 x 2: signs', True]
 '''
 
 
 class Examples(Case):
     def test_examples(self):
         examples = EXAMPLES.strip().split("\n\n")
-        self.assertEqual(len(examples), 33)
+        self.assertEqual(len(examples), 41)
         for example in examples:
             with self.subTest(example):
                 self.check(example.split("\n"))
