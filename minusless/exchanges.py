@@ -71,7 +71,8 @@ def leading_letters(order):
 
 def without_leading(order, letter):
     """Return the order of what is left of a shortest word without this letter, which leads it."""
-    return tuple([letter + 1 if number == letter else letter if number == letter + 1 else number for number in order])
+    exchanged_numbers = {letter: letter + 1, letter + 1: letter}
+    return tuple([exchanged_numbers.get(number, number) for number in order])
 
 
 def words_behind(order, letters):

@@ -34,9 +34,8 @@ def solutions(rows, wanted):
 
 
 def solution(rows, wanted):
-    """Return the row that the rows take to the row wanted, None if their determinant is 0."""
-    found = solutions(rows, [wanted])
-    return None if found is None else found[0]
+    """Return the row that the rows take to the row wanted, for a determinant that is not 0."""
+    return solutions(rows, [wanted])[0]
 
 
 def inverse_rows(table):

@@ -5,21 +5,25 @@ import inspect
 import unittest
 
 from helpers import Case
-from minusless import (asking, borders, boxcompanies, boxways, breaking, byboxes, chips, chipwebs, choosing, clearing,
-                       codes, companies, coresteps, counting, crossroads, cutting, exchanges, filling, finding, greedy,
-                       judging, ladders, lots, mainrule, making, meanings, minors, noughts, numbering, numbers, onerow,
-                       papers, passages, powers, raising, reading, results, roadminors, roads, runs, signs, stairs,
-                       steps, tables, takingback, threeparts, tops, unmaking, words)
+from minusless import (asking, blanks, borders, boxcompanies, boxways, breaking, byboxes, chips, chipwebs, choosing,
+                       clearing, codes, companies, coresteps, counting, crossroads, cutting, desks, exchanges, filling,
+                       fillings, finding, greedy, judging, ladders, listing, loose, lots, mainrule, making, meanings,
+                       minors, narrowing, noughts, numbering, numbers, onerow, papers, passages, polynomials, powers,
+                       raising, reading, results, roadminors, roads, roots, runs, signs, stairs, steps, strict, tables,
+                       takingback, threeparts, tops, trials, unmaking, words)
 from minusless.asking import Asker
+from minusless.blanks import PartTable
 from minusless.breaking import SignPaper
 from minusless.chips import By, Chip, Down, Up
 from minusless.chipwebs import ChipWeb
+from minusless.desks import Desk
 from minusless.papers import BadPaper, GoodPaper, Paper
 from minusless.runs import Run
 from minusless.signs import SignRule
 from minusless.stairs import Stair
 from minusless.steps import ColumnStep, RowStep, Step
 from minusless.tables import Table
+from minusless.trials import Trial
 
 ONE, HALF = (1, 1), (1, 2)
 TABLE = Table.read("1 1/2\n1 1")
@@ -27,6 +31,7 @@ SQUARE = Table.read("1 1 1\n1 2 3\n1 3 6")
 WEB = ChipWeb(2, [Down(0, (2, 1)), Up(0, (3, 1)), By(1, (1, 2))])
 WAY = [[0, 1], [1, 1], [1, 0]]
 PATTERN = [[0, 1, 1], [1, 0, 1], [1, 1, 1]]
+PART = PartTable([[None, ONE], [ONE, ONE]])
 
 # The interface: where each function stands and the names of its arguments.
 FUNCTIONS = {
@@ -112,6 +117,23 @@ FUNCTIONS = {
     signs: {"changes": "row", "most_changes": "row", "begins": "row", "ends": "row", "filled_signs": "row begin",
             "taken": "table row", "taken_left": "table row"},
     breaking: {"solved": "table row", "breaks": "table row", "breaking_row": "table", "reaching_row": "table"},
+    strict: {"is_all_above": "table", "strict_row": "table", "rows_of_signs": "size", "most_over": "table"},
+    blanks: {"part_of_half": "rows", "known_core": "part", "known_minor": "part rows columns"},
+    fillings: {"is_fillable": "part", "filled": "part numbers", "good_filling": "part numbers",
+               "numbers_in": "part table", "least_filling": "part", "free_blanks": "part", "rank_low": "part",
+               "bound_stair": "part"},
+    loose: {"is_loose": "part rows columns", "loose_value": "part rows columns", "no_filling": "part",
+            "holds_against": "part rows columns"},
+    polynomials: {"check_poly": "poly", "value_at": "poly number", "poly_times": "one other", "shifted": "poly number",
+                  "poly_changes": "poly", "low_noughts": "poly", "root_poly": "table", "trail": "table",
+                  "poly_words": "poly"},
+    roots: {"above_count": "table number", "at_count": "table number", "by_turns": "table number",
+            "root_floor": "table place under", "nonzero_roots": "table", "own_size": "stair",
+            "root_words": "table under"},
+    narrowing: {"narrowed": "table", "replayed": "table deeds", "dropped": "deeds"},
+    desks: {"read_deed": "words"},
+    trials: {"tried": "desk texts", "best_raise": "desk row column"},
+    listing: {"desk_lines": "desk", "summary": "table"},
 }
 
 # These are passed by name only.
@@ -147,6 +169,15 @@ METHODS = {
           "__eq__": "other", "__len__": "", "__iter__": ""},
     SignRule: {"__call__": "row", "strict": "row", "verdicts": "rows", "turned_rule": ""},
     SignPaper: {"holds": "", "about": "", "size": ""},
+    PartTable: {"of_table": "table shape", "is_blank": "row column", "blanks": "", "known_boxes": "", "shape": "",
+                "turned_part": "", "agrees": "table", "with_known": "row column number", "__eq__": "other",
+                "__iter__": ""},
+    Desk: {"put_mark": "box", "step": "kind at amount", "take_back": "kind at amount",
+           "raise_entry": "row column number", "put_row": "at row", "put_column": "at column", "leave_row": "at",
+           "leave_column": "at", "copy_row": "at", "turn": "", "half_turn": "", "take_with": "table",
+           "carry_out": "words", "what_if": "words", "go_back": "many", "undo": "", "paper": "", "cell": "",
+           "ranks": ""},
+    Trial: {"begin": "", "finish": "", "__enter__": "", "__exit__": "kind value trace"},
 }
 
 
@@ -199,7 +230,27 @@ def calls():
         (signs.ends, row), (signs.filled_signs, row, 1), (signs.taken, TABLE, row), (signs.taken_left, TABLE, row),
         (SignRule(TABLE), row), (SignRule(TABLE).strict, row), (SignRule(TABLE).verdicts, [row, by]),
         (breaking.solved, TABLE, row), (breaking.breaks, TABLE, row), (SignPaper, TABLE, row),
+        (PartTable, [[None, ONE], [ONE, ONE]]), (PartTable.of_table, TABLE, [1, 0]), (blanks.part_of_half, [[ONE, None]]),
+        (blanks.known_minor, PART, [1], [1]), (fillings.filled, PART, [ONE]), (fillings.good_filling, PART, [ONE]),
+        (loose.is_loose, PART, two, [0, 1]), (loose.loose_value, PART, [1], [0]), (loose.holds_against, PART, [1], [0]),
+        (polynomials.check_poly, row), (polynomials.value_at, row, ONE), (polynomials.poly_times, row, by),
+        (polynomials.shifted, row, ONE), (polynomials.poly_changes, row), (polynomials.low_noughts, row),
+        (polynomials.poly_words, row), (narrowing.replayed, TABLE, [["row", 1, ONE], ["column", 1, ONE]]),
+        (narrowing.dropped, [["row", 1, ONE], ["drop", 1]]), (marked, [1, 0]), (row_put, [ONE, HALF]),
+        (trials.tried, Desk(TABLE), ["turn", "half_turn"]),
     ]
+
+
+def marked(box):
+    """What a desk with this marked box holds."""
+    desk = Desk(TABLE, marked=box)
+    return (desk.marked, desk.core, desk.pattern, desk.deeds)
+
+
+def row_put(row):
+    """What a desk gives back and holds when a row and a column have been put in."""
+    desk = Desk(TABLE)
+    return (desk.put_row(0, row), desk.put_column(0, [ONE] * 3), desk.table, desk.deeds)
 
 
 def asked(signs):
@@ -263,7 +314,13 @@ class Arguments(Case):
                       words.least_run(SQUARE), words.amounts_of(SQUARE, (0, 1, 0)), tops.top_edges(TABLE),
                       tops.bottom_edges(TABLE), raising.entry_stretch(TABLE, 0, 1), raising.ending_minor(TABLE, 0, 1),
                       raising.top_stretch(TABLE, 1), breaking.reaching_row(TABLE), SignPaper(TABLE, [ONE, ONE]).row_told,
-                      breaking.breaking_row(Table.read("1 2\n2 1")), borders.codes_below((0, 0, 0))):
+                      breaking.breaking_row(Table.read("1 2\n2 1")), borders.codes_below((0, 0, 0)),
+                      PART.rows, PART.blanks(), PART.known_boxes(), PART.shape(), blanks.known_core(PART),
+                      fillings.numbers_in(PART, TABLE.raised(0, 1, HALF)), fillings.free_blanks(PART),
+                      loose.no_filling(PartTable([[(-1, 1)]])), polynomials.root_poly(TABLE), polynomials.trail(TABLE),
+                      roots.by_turns(TABLE, ONE), roots.root_words(TABLE, 10), narrowing.narrowed(SQUARE),
+                      strict.strict_row(Table.read("0 1")), listing.desk_lines(Desk(TABLE)), desks.read_deed("turn"),
+                      desks.read_deed("put_row 0 1 2"), Desk(TABLE).pattern, Desk(TABLE).turn(), Desk(TABLE).deeds):
             self.assertIs(type(found), tuple)
             self.assertTrue(holds_no_list(found))
 
@@ -293,16 +350,20 @@ class Interface(Case):
                 self.assertEqual([part for part in names if part != "self"], parameters.split(), name)
 
     def test_properties(self):
-        for kind, name in ((Table, "square"), (ChipWeb, "length"), (Stair, "many")):
+        for kind, name in ((Table, "square"), (ChipWeb, "length"), (Stair, "many"), (Desk, "verdict"),
+                           (Desk, "marked"), (Trial, "ended")):
             self.assertIsInstance(vars(kind)[name], property)
+            self.assertEqual(vars(kind)[name].fset is None, name != "marked")
 
     def test_constructors(self):
         for kind, parameters in ((Table, "rows"), (Chip, "at amount"), (Down, "at amount"), (Up, "at amount"),
                                  (By, "at amount"), (ChipWeb, "wires chips"), (Stair, "rows"), (Asker, "high wide"),
                                  (Paper, "table"), (GoodPaper, "table core"), (BadPaper, "table rows columns"),
                                  (Step, "at amount"), (RowStep, "at amount up"), (ColumnStep, "at amount left"),
-                                 (Run, "steps"), (SignRule, "table"), (SignPaper, "table row")):
+                                 (Run, "steps"), (SignRule, "table"), (SignPaper, "table row"), (PartTable, "rows"),
+                                 (Desk, "table marked"), (Trial, "desk")):
             self.assertEqual(list(inspect.signature(kind).parameters), parameters.split())
+        self.assertIs(inspect.signature(Desk).parameters["marked"].kind, inspect.Parameter.KEYWORD_ONLY)
 
 
 if __name__ == "__main__":

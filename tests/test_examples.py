@@ -3,9 +3,10 @@
 import unittest
 
 from helpers import Case
-from minusless.errors import BadChip, BadNumber, NotGood
+from minusless.errors import BadChip, BadNumber, BadStair, NotGood
 
-RAISED = {"BadNumber(1)": BadNumber(1), "BadChip(1)": BadChip(1), "NotGood(row=0, column=0)": NotGood(0, 0)}
+RAISED = {"BadNumber(1)": BadNumber(1), "BadChip(1)": BadChip(1), "NotGood(row=0, column=0)": NotGood(0, 0),
+          "BadStair(row=1, column=1)": BadStair(1, 1)}
 
 EXAMPLES = r'''
 >>> from minusless.minors import determinant
@@ -238,13 +239,65 @@ raises NotGood(row=0, column=0)
 >>> paper = SignPaper(table, row)
 >>> [row, taken(table, row), paper.about(), paper.holds()]
 [((-1, 1), (1, 1)), ((1, 1), (-1, 1)), 'about 2 x 2: signs', True]
+
+>>> from minusless.tables import Table
+>>> from minusless.breaking import reaching_row
+>>> from minusless.strict import strict_row, most_over
+>>> table = Table.read('1 1\n1 1')
+>>> [strict_row(table), reaching_row(table), most_over(table)]
+[((1, 1), (-1, 1)), ((1, 1), (0, 1)), 0]
+
+>>> from minusless.blanks import PartTable, known_core
+>>> from minusless.fillings import least_filling
+>>> part = PartTable([[None, (1, 1)], [(1, 1), (1, 1)]])
+>>> [known_core(part), least_filling(part).words()]
+[((None, (1, 1)), ((1, 1), (1, 1))), '1 1\n1 1']
+
+>>> from minusless.blanks import PartTable
+>>> from minusless.loose import loose_value, no_filling
+>>> part = PartTable([[None, (1, 1)], [(1, 1), (0, 1)]])
+>>> [no_filling(part), loose_value(part, [0, 1], [0, 1])]
+[((0, 1), (0, 1)), (-1, 1)]
+
+>>> from minusless.blanks import PartTable
+>>> from minusless.fillings import free_blanks, good_filling
+>>> part = PartTable([[None, (1, 1)], [None, (0, 1)]])
+>>> [free_blanks(part), good_filling(part, [(2, 1), (0, 1)]).words()]
+[((0, 0),), '2 1\n0 0']
+>>> good_filling(part, [(0, 1), (1, 1)])
+raises BadStair(row=1, column=1)
+
+>>> from minusless.polynomials import poly_words, root_poly
+>>> from minusless.roots import by_turns, root_words
+>>> from minusless.tables import Table
+>>> table = Table.read("2 1\n1 1")
+>>> [poly_words(root_poly(table)), by_turns(table, (1, 1)), root_words(table, 100)]
+['x^2 - 3 x + 1', (0, 0, 1), ('261/100', '38/100')]
+
+>>> from minusless.narrowing import narrowed
+>>> from minusless.tables import Table
+>>> narrow, deeds = narrowed(Table.read("1 1 0\n1 2 1\n1 2 2"))
+>>> [narrow.words(), deeds]
+['1 1 0\n1 3 1\n0 1 1', (('row', 2, (1, 1)),)]
+
+>>> from minusless.desks import Desk
+>>> from minusless.tables import Table
+>>> desk = Desk(Table.read("1 1\n0 1"))
+>>> [desk.step("down", 0, (1, 1)), desk.raise_entry(0, 1, (2, 1)), desk.undo(), desk.deeds]
+[('good', 'good', 1), ('good', 'not good', 0), ('not good', 'good', 0), ('step down 0 1',)]
+
+>>> from minusless.desks import Desk
+>>> from minusless.listing import desk_lines
+>>> from minusless.tables import Table
+>>> desk_lines(Desk(Table.read("1 1\n1 2"), marked=(0, 0)))[-6:]
+('verdict good', 'cell 13 of 14', 'rank 2', 'paper about 2 x 2: good, size 4', 'deeds 0', 'marked 0 0 from -1/2 to no end')
 '''
 
 
 class Examples(Case):
     def test_examples(self):
         examples = EXAMPLES.strip().split("\n\n")
-        self.assertEqual(len(examples), 41)
+        self.assertEqual(len(examples), 49)
         for example in examples:
             with self.subTest(example):
                 self.check(example.split("\n"))

@@ -24,8 +24,8 @@ BUILTIN_METHODS = set("""append clear copy count endswith extend find get index 
     setdefault split splitlines startswith strip update upper values zfill bit_length removeprefix removesuffix""".split())
 LIBRARY = {"math": {"gcd", "lcm", "isqrt", "comb", "perm", "factorial"}}
 DUNDERS = set("""__init__ __eq__ __len__ __iter__ __getitem__ __contains__ __mul__ __add__ __invert__ __bool__
-    __call__""".split())
-NOT_USED = (ast.Lambda, ast.GeneratorExp, ast.Set, ast.SetComp, ast.Global, ast.Nonlocal, ast.With, ast.Match,
+    __call__ __enter__ __exit__""".split())
+NOT_USED = (ast.Lambda, ast.GeneratorExp, ast.Set, ast.SetComp, ast.Global, ast.Nonlocal, ast.Match,
             ast.NamedExpr, ast.Delete, ast.Assert, ast.Import, ast.AsyncFunctionDef, ast.Await, ast.Div, ast.Pow,
             ast.MatMult, ast.AnnAssign, ast.TryStar)
 NAMES_NOT_USED = set("""register mro elements open input law version_info with_traceback add_note attrgetter breakpoint
@@ -91,6 +91,10 @@ ATTRIBUTES = {node.attr for tree in TREES.values() for node in ast.walk(tree)
 GENERATORS = {node.name for tree in TREES.values() for node in functions(tree) if is_generator(node)}
 PROPERTIES = {node.name for kind in CLASSES.values() for node in kind.body if isinstance(node, ast.FunctionDef)
               and any(isinstance(part, ast.Name) and part.id == "property" for part in node.decorator_list)}
+
+
+def is_setter(function):
+    return any(isinstance(part, ast.Attribute) and part.attr == "setter" for part in function.decorator_list)
 
 
 def callable_objects(tree):
@@ -193,6 +197,8 @@ class Language(unittest.TestCase):
                 if isinstance(node, ast.Raise):
                     self.assertIn(called_name(node.exc), CLASSES)
                     self.assertTrue(node.cause is None or isinstance(node.cause, ast.Name))
+                if isinstance(node, ast.With):
+                    self.assertTrue(all(called_name(part.context_expr) in CLASSES for part in node.items))
                 if isinstance(node, ast.Starred):
                     self.assertIsInstance(node.value, (ast.Name, ast.Attribute))
 
@@ -217,7 +223,7 @@ class Language(unittest.TestCase):
                     self.assertIsInstance(node.ctx, ast.Store)
 
     def test_functions_of_one_name(self):
-        names = [node.name for tree in TREES.values() for node in functions(tree)]
+        names = [node.name for tree in TREES.values() for node in functions(tree) if not is_setter(node)]
         for name in GENERATORS:
             self.assertEqual(names.count(name), 1, name)
             self.assertNotIn(name, BUILTIN_METHODS)
@@ -229,8 +235,12 @@ class Language(unittest.TestCase):
     def test_parameters(self):
         for _, tree in self.each():
             for function in functions(tree):
-                self.assertLessEqual({getattr(part, "id", None) for part in function.decorator_list},
-                                     {"property", "classmethod", "staticmethod"})
+                if is_setter(function):
+                    self.assertEqual([part.value.id for part in function.decorator_list], [function.name])
+                    self.assertIn(function.name, PROPERTIES)
+                else:
+                    self.assertLessEqual({getattr(part, "id", None) for part in function.decorator_list},
+                                         {"property", "classmethod", "staticmethod"})
                 for value in function.args.defaults + function.args.kw_defaults:
                     if value is not None:
                         self.assertIsInstance(ast.literal_eval(value), (int, str, tuple, type(None)))
@@ -278,7 +288,7 @@ class Language(unittest.TestCase):
         for _, tree in self.each():
             for node in ast.walk(tree):
                 if isinstance(node, ast.Attribute) and isinstance(node.ctx, ast.Load):
-                    self.assertIn(node.attr, ATTRIBUTES | METHODS | CLASS_VALUES | BUILTIN_METHODS)
+                    self.assertIn(node.attr, ATTRIBUTES | METHODS | CLASS_VALUES | BUILTIN_METHODS | {"setter"})
                     self.assertNotIn(node.attr, NAMES_NOT_USED)
 
     def test_classes_are_not_passed_on(self):
@@ -301,6 +311,14 @@ class Language(unittest.TestCase):
                 if name in held:
                     self.assertEqual(len(held[name].body), 1)
                     self.assertIn(called_name(held[name].body[0].value), ("len", "iter"))
+            self.assertEqual("__enter__" in held, "__exit__" in held)
+            if "__exit__" in held:
+                # Only a method of its own is called, which does nothing but assign what was kept.
+                (call,) = held["__exit__"].body
+                shut = held[called_name(call.value)]
+                for row in shut.body:
+                    self.assertIsInstance(row, ast.Assign)
+                    self.assertIsInstance(row.value, (ast.Attribute, ast.Constant))
             if "__init__" in held:
                 self.assertFalse(any(isinstance(node, ast.Return) for node in ast.walk(held["__init__"])))
 
